@@ -1,0 +1,1 @@
+"""Pathbook: paths walked by sections on many days."""
