@@ -6,6 +6,8 @@ from pathbook.words import is_name, is_tuple, is_whole
 SORTS = ("length", "climb", "days", "sections")
 # How many things each of the four of a BOOK has, at least and at most.
 HOW_MANY = ((1, 8), (0, 20), (0, 4), (0, 6))
+MOST_MARKS = 8
+MOST_BESIDE = 4
 
 
 def is_stretch(thing):
@@ -23,7 +25,7 @@ def ways_of(marks):
 
 def are_marks(thing):
     """Whether anything is the MARKS of a SECTION."""
-    if not is_tuple(thing, 2, 8) or not all([is_name(mark) for mark in thing]):
+    if not is_tuple(thing, 2, MOST_MARKS) or not all([is_name(mark) for mark in thing]):
         return False
     ways = ways_of(thing)
     return all([one != other for one, other in ways]) and len(set(ways)) == len(ways)
@@ -77,7 +79,7 @@ def beside_fits(sections, besides, number):
     """Whether that one of BESIDES is good, by itself and beside those ahead, which are."""
     beside = besides[number]
     # What is no NAME may be such that no set can have it.
-    if not is_tuple(beside, 2, 4) or not all([is_name(name) for name in beside]):
+    if not is_tuple(beside, 2, MOST_BESIDE) or not all([is_name(name) for name in beside]):
         return False
     names = names_of(sections)
     taken = [name for ahead in besides[:number] for name in ahead]

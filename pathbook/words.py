@@ -7,6 +7,10 @@ FIGURES = "0123456789"
 LONGEST_NAME = 8
 LAST_DAY = 9999
 MOST_FIGURES = 5
+RIDE = ("ride",)
+MOST_LEGS = 60
+# The greatest number of a MARK that a LEG can name.
+LAST_MARK = 7
 
 
 def is_whole(thing, least=0, most=9999):
