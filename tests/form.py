@@ -1,7 +1,9 @@
-"""The rules of the Python subset, as far as a program can look at them: complaints(files) tells every breach.
+"""The rules of the Python subset, as far as this looks at them: complaints(files) tells the breaches that it sees.
 
-Where a rule lets something be under many conditions that the package has no need of (generators, sets that are kept,
-decorators, kept iterators, matching, annotations), it is complained of altogether: loosen that here first.
+Not looked at is what hangs on the kinds of values (as in L22 to L24) or on what a run does (L11), and some corners of
+nested functions, deletions and comprehensions (L4, L6, L7). Where a rule lets something be under many conditions that the
+package has no need of (generators, sets that are kept, decorators, kept iterators, matching, annotations), it is
+complained of altogether: loosen that here first.
 """
 
 import ast
@@ -54,6 +56,7 @@ EXPRESSIONS = (
     ast.Name, ast.List, ast.Tuple, ast.Slice,
 )
 COMPREHENSIONS = (ast.ListComp, ast.SetComp, ast.DictComp)
+FRAMES = re.compile(r"(f|tb|co|gi|cr|ag)_(back|builtins|code|globals|lasti|lineno|locals|trace|frame|next|names|consts)\b")
 FORMAT = re.compile(r"(.?[<>=^])?[-+ ]?#?0?[0-9]{0,2}[,_]?(\.[0-9]{1,2})?[dsxXob]?\Z")
 
 
@@ -235,7 +238,7 @@ def look_at_names(package, file, node):
     for name in given:
         if not re.fullmatch(r"[A-Za-z][A-Za-z0-9_]*", name) and name not in UNDERSCORED:
             package.say("L12", file, node)
-        if name in NOWHERE or (name in NO_NAMES and not isinstance(node, (ast.Attribute, ast.keyword))):
+        if FRAMES.match(name) or name in NOWHERE or (name in NO_NAMES and not isinstance(node, (ast.Attribute, ast.keyword))):
             package.say("L17", file, node)
 
 
@@ -379,6 +382,10 @@ def look_at_expression(package, file, node):
         package.say("L7", file, node)
     if isinstance(node, ast.Constant) and isinstance(node.value, str):
         look_at_string(package, file, node)
+    if isinstance(node, ast.Constant) and isinstance(node.value, int) and abs(node.value) >= 10 ** 900:
+        package.say("L27", file, node)
+    if isinstance(node, ast.Subscript):
+        look_at_kept(package, file, node)
     if isinstance(node, COMPREHENSIONS):
         many = len(node.generators), sum(len(one.ifs) for one in node.generators)
         if many[0] > 6 or many[1] > 12 or package.function_around(node) is None:
@@ -395,8 +402,28 @@ def look_at_expression(package, file, node):
             package.say("L7", file, node)
 
 
+def look_at_lambdas(package, file, tree):
+    """L13: no two lambdas with the same parameters stand on one line."""
+    found = [(node.lineno, ast.unparse(node.args)) for node in ast.walk(tree) if isinstance(node, ast.Lambda)]
+    if len(set(found)) != len(found):
+        package.say("L13", file, tree)
+
+
+def look_at_kept(package, file, node):
+    """L15: nothing at module level has its items set or removed."""
+    if isinstance(node.ctx, ast.Load):
+        return
+    inner = node.value
+    while isinstance(inner, ast.Subscript):
+        inner = inner.value
+    if isinstance(inner, ast.Name) and inner.id in package.defined[file]:
+        package.say("L15", file, node)
+
+
 def look_at_string(package, file, node):
     text = node.value
+    if FRAMES.search(text):
+        package.say("L27", file, node)
     if text.endswith("._") or text.endswith(".__") or re.fullmatch("__.*__", text):
         package.say("L27", file, node)
 
@@ -519,6 +546,7 @@ def complaints(files):
         look_at_file(package, file, files[file], tree)
         look_at_top(package, file, tree)
         look_at_locals(package, file, tree)
+        look_at_lambdas(package, file, tree)
         for node in ast.walk(tree):
             look_at_names(package, file, node)
             if isinstance(node, ast.stmt):

@@ -68,7 +68,8 @@ IN_A_FUNCTION = (
     ("L23", "for row in box.rows:\n        box.rows.append(row)"), ("L23", "for row in most:\n        most[row] = 1"),
     ("L19", "try:\n        return box\n    except Exception:\n        return 1"), ("L7", "return f'{most!a}'"),
     ("L19", "try:\n        return box\n    except ValueError:\n        return 1"), ("L25", "box.rows.sort()"),
-    ("L6", "match box:\n        case 1:\n            return 2"), ("L6", "box\n    most"), ("L18", "return isinstance(Box, Box)"),
+    ("L13", "return [lambda row: 1, lambda row: 2]"), ("L15", "SORTS[0] = 1"), ("L15", "del SORTS[0][1]"),
+    ("L17", "return box.f_back"), ("L27", "return 'tb_next'"), ("L27", "return 1" + "0" * 900), ("L6", "match box:\n        case 1:\n            return 2"), ("L6", "box\n    most"), ("L18", "return isinstance(Box, Box)"),
 )
 IN_A_FILE = (
     ("L3", "asked(1)"), ("L3", "A = B = 1"), ("L3", "A, B = 1, 2"), ("L3", "A = [[1]]"), ("L3", "A = len('a')"),
