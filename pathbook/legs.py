@@ -108,13 +108,18 @@ def are_joined(one, other):
     return one is not None and other is not None and one[1] == other[0]
 
 
+def first_break(book, legs, closed=None):
+    """The place of the first LEG that would count and isn't joined with the next one, which would, too; or None."""
+    ends = [from_to(book, leg, closed) for leg in legs]
+    for place, (one, other) in enumerate(zip(ends, ends[1:])):
+        if one is not None and other is not None and not are_joined(one, other):
+            return place
+    return None
+
+
 def meets(book, legs, closed=None):
     """Whether the LEGS are SOUND."""
-    ends = [from_to(book, leg, closed) for leg in legs]
-    for one, other in zip(ends, ends[1:]):
-        if one is not None and other is not None and not are_joined(one, other):
-            return False
-    return True
+    return first_break(book, legs, closed) is None
 
 
 def counted(book, legs, closed=None):

@@ -36,6 +36,21 @@ INTERFACE = {
         "trails": "(book, legs, closed=None)", "behind": "(book, first, second, closed=None)",
         "Walk": "(day, walker, legs)", "in_order": "(walks)",
     },
+    "calendar": {
+        "need_thing": "(thing)", "put_in": "(things, thing)", "taken_out": "(things, thing)",
+        "book_of": "(things, day)", "seasons": "(things, first=0, last=9999)", "closed_on": "(things, name, day)",
+        "closures": "(things, name, first=0, last=9999)", "closed_names": "(things, day)",
+        "reasons": "(things, day, legs)", "counting": "(things, day, legs)", "is_sound": "(things, day, legs)",
+        "break_of": "(things, day, legs)", "walks_of": "(things, walker, last=9999)",
+    },
+    "covered": {
+        "covered": "(things, walker, day=9999)", "times": "(things, walker, day=9999)",
+        "came": "(things, walker, day=9999)", "done": "(things, walker, day=9999)",
+        "left": "(things, walker, day=9999)", "finished": "(things, walker, day=9999)",
+        "excused": "(things, walker, day=9999)", "share": "(things, walker, day=9999)",
+        "standing": "(things, walker, name, day=9999)", "sums": "(things, walker, day=9999, since=0)",
+    },
+    "club": {"Club": "(things=None)", "merged": "(clubs)"},
 }
 
 # Each stands in the body of its class.
@@ -43,6 +58,14 @@ METHODS = {
     ("legs", "Walk"): {
         "__init__": "(self, day, walker, legs)", "thing": "(self)", "about": "(self)",
         "again": "(self, day=None, walker=None)", "__len__": "(self)", "__str__": "(self)", "__eq__": "(self, other)",
+    },
+    ("club", "Club"): {
+        "__init__": "(self, things=None)", "tell": "(self, thing)", "untell": "(self, thing)", "take_back": "(self)",
+        "things": "(self)", "changes": "(self)", "walkers": "(self)", "idle": "(self)", "book_of": "(self, day=9999)",
+        "covered": "(self, walker, day=9999)", "done": "(self, walker, day=9999)", "left": "(self, walker, day=9999)",
+        "finished": "(self, walker, day=9999)", "excused": "(self, walker, day=9999)",
+        "sums": "(self, walker, day=9999, since=0)", "news": "(self, walker, day=9999)", "twin": "(self)",
+        "up_to": "(self, day)", "lean": "(self)", "__len__": "(self)", "__str__": "(self)", "__eq__": "(self, other)",
     },
 }
 
