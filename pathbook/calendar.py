@@ -93,10 +93,8 @@ def need_book_of(things, day):
 
 
 def whole_seasons(things):
-    """A rising list of the SEASONS of all DAYS."""
-    begins = books_told(things)
-    if not begins or begins[0][0] > 0:
-        begins = [(0, None)] + begins
+    """A rising list of the SEASONS of all DAYS, the first one ending ahead of DAY 0 where a BOOK begins on it."""
+    begins = [(0, None)] + books_told(things)
     ends = [day - 1 for day, book in begins[1:]] + [LAST_DAY]
     return [(begin, end, book) for (begin, book), end in zip(begins, ends)]
 

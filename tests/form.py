@@ -486,17 +486,27 @@ def is_iterated(package, node):
     return called(above) in TAKES_ALL and node in above.args
 
 
+def heads_of_call(package, file, node):
+    """The functions or methods that a call may mean, and how many arguments are passed by themselves."""
+    if isinstance(node.func, ast.Attribute):
+        heads = [one for cls in package.classes.values() for one in cls.body if isinstance(one, ast.FunctionDef)]
+        return [one for one in heads if one.name == node.func.attr and one.name not in METHODS], 1
+    if not isinstance(node.func, ast.Name) or node.func.id not in package.defined[file]:
+        return [], 0
+    if node.func.id in package.classes:
+        own = package.classes[node.func.id]
+        return [one for one in own.body if isinstance(one, ast.FunctionDef) and one.name == "__init__"], 1
+    tops = [one for tree in package.trees.values() for one in tree.body]
+    return [one for one in tops if isinstance(one, ast.FunctionDef) and one.name == node.func.id], 0
+
+
 def look_at_own_call(package, file, node):
-    """L22: a call of an own function passes what it takes."""
-    heads = [
-        one for tree in package.trees.values() for one in tree.body
-        if isinstance(one, ast.FunctionDef) and isinstance(node.func, ast.Name) and one.name == node.func.id
-    ]
-    local = package.function_around(node)
-    if len(heads) != 1 or local is None or node.func.id not in package.defined[file]:
+    """L22: a call of an own function, class or method passes what it takes."""
+    heads, own = heads_of_call(package, file, node)
+    if len(heads) != 1 or package.function_around(node) is None:
         return
     takes = heads[0].args
-    names = [one.arg for one in takes.args]
+    names = [one.arg for one in takes.args][own:]
     if takes.vararg or takes.kwarg or takes.kwonlyargs or any(isinstance(one, ast.Starred) for one in node.args):
         return
     passed = names[:len(node.args)] + [one.arg for one in node.keywords]
@@ -504,6 +514,50 @@ def look_at_own_call(package, file, node):
     wrong = len(node.args) > len(names) or sorted(set(passed)) != sorted(passed) or not set(passed) <= set(names)
     if wrong or not set(needed) <= set(passed):
         package.say("L22", file, node)
+
+
+def tables_of(package, file):
+    """The names of all lists and dicts at module level that a file knows, imported ones too."""
+    made = {}
+    for other, tree in package.trees.items():
+        for one in tree.body:
+            if isinstance(one, ast.Assign) and isinstance(one.value, (ast.List, ast.Dict)):
+                made.setdefault(other, []).extend(bound_at_top(one))
+    known = list(made.get(file, []))
+    for one in package.trees[file].body:
+        if isinstance(one, ast.ImportFrom):
+            other = (one.module or "").split(".")[-1] + ".py"
+            known.extend(alias.asname or alias.name for alias in one.names if alias.name in made.get(other, []))
+    return known
+
+
+def look_at_tables(package, file, tree):
+    """L15: a list or dict at module level is only read where it stands."""
+    known = tables_of(package, file)
+    for node in ast.walk(tree):
+        if not isinstance(node, ast.Name) or not isinstance(node.ctx, ast.Load) or node.id not in known:
+            continue
+        above = package.above[node]
+        read = isinstance(above, ast.Subscript) and above.value == node
+        read = read or (isinstance(above, ast.Compare) and above.left != node)
+        read = read or (isinstance(above, (ast.For, ast.comprehension)) and above.iter == node)
+        read = read or (isinstance(above, ast.Call) and called(above) in ("len", "list", "dict", "sorted", "tuple"))
+        read = read or (isinstance(above, ast.Attribute) and above.attr in ("get", "items", "keys", "values", "index", "count"))
+        if not read:
+            package.say("L15", file, node)
+
+
+def look_at_handlers(package, file, tree):
+    """L19: the name of a caught error is nothing else's in its function."""
+    for function in ast.walk(tree):
+        if not isinstance(function, ast.FunctionDef):
+            continue
+        inside = list(ast.walk(function))
+        caught = [one.name for one in inside if isinstance(one, ast.ExceptHandler) and one.name]
+        given = [one.id for one in inside if isinstance(one, ast.Name) and isinstance(one.ctx, ast.Store)]
+        given += [one.arg for one in inside if isinstance(one, ast.arg)]
+        if len(set(caught)) != len(caught) or set(caught) & set(given):
+            package.say("L19", file, function)
 
 
 def look_at_set(package, file, node):
@@ -547,6 +601,8 @@ def complaints(files):
         look_at_top(package, file, tree)
         look_at_locals(package, file, tree)
         look_at_lambdas(package, file, tree)
+        look_at_tables(package, file, tree)
+        look_at_handlers(package, file, tree)
         for node in ast.walk(tree):
             look_at_names(package, file, node)
             if isinstance(node, ast.stmt):

@@ -420,6 +420,26 @@ class Idle(unittest.TestCase):
         self.assertEqual(set(club.idle()), naive_days.idle(club.things()))
         self.assertEqual(club.lean().things(), naive_days.lean(club.things()))
 
+    def test_only_what_one_walker_has_on_one_day_can_be_swapped(self):
+        one, gate = ("one", ("a", "b"), ((5, 1, 1),)), ("gate", ("x", "y"), ((5, 1, 1),))
+        book = ("book", 0, ((one, gate), (), (), ()))
+        begun = tuple(("walk", 1, name, (("one", 0, 1), RIDE, ("gate", 0, 1))) for name in ("ann", "ben"))
+        closing = ("closed", "gate", 3, 4)
+        # Closed, the first LEG alone counts; not closed, the walk is broken.
+        broken, through = (("one", 0, 1), ("gate", 0, 1)), (("gate", 1, 0),)
+        for walks, is_idle in (
+            ((("walk", 3, "ann", broken), ("walk", 3, "ann", through)), True),
+            ((("walk", 3, "ann", broken), ("walk", 4, "ann", through)), False),
+            ((("walk", 4, "ann", broken), ("walk", 3, "ann", through)), False),
+            ((("walk", 3, "ann", broken), ("walk", 3, "ben", through)), False),
+            ((("walk", 3, "ann", broken), ("walk", 3, "ann", through), ("walk", 4, "ben", broken)), False),
+            ((("walk", 3, "ben", broken), ("walk", 3, "ben", through), ("walk", 4, "ann", through)), False),
+        ):
+            club = Club((book, closing) + begun + walks)
+            self.assertEqual(closing in club.idle(), is_idle, walks)
+            self.assertEqual(set(club.idle()), naive_days.idle(club.things()))
+            self.assertEqual(club.lean().things(), naive_days.lean(club.things()))
+
     def test_sums_alone_tell_it(self):
         one = ("book", 0, ((("east", ("a", "b"), ((5, 1, 1),)),), (), (), ()))
         for stretch, is_idle in (((5, 1, 1), True), ((6, 1, 1), False), ((5, 2, 1), False), ((5, 1, 2), False)):

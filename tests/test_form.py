@@ -14,6 +14,7 @@ from pathbook.words import is_name
 
 NORTH = 0
 SORTS = ("a", ("b", -1))
+TABLE = {"a": 1}
 
 
 class Odd(ValueError):
@@ -47,8 +48,8 @@ def asked(box, most=5):
     found = {}
     for at, row in enumerate(box.rows):
         found[row] = at
-    if len(set(box.rows)) != len(box.rows) or most is None:
-        raise Odd(most)
+    if len(set(box.rows)) != len(box.rows) or most is None or "a" not in TABLE:
+        raise Odd(TABLE["a"])
     return sorted(found, key=lambda row: found[row])
 '''
 
@@ -70,6 +71,10 @@ IN_A_FUNCTION = (
     ("L19", "try:\n        return box\n    except ValueError:\n        return 1"), ("L25", "box.rows.sort()"),
     ("L13", "return [lambda row: 1, lambda row: 2]"), ("L15", "SORTS[0] = 1"), ("L15", "del SORTS[0][1]"),
     ("L17", "return box.f_back"), ("L27", "return 'tb_next'"), ("L27", "return 1" + "0" * 900), ("L6", "match box:\n        case 1:\n            return 2"), ("L6", "box\n    most"), ("L18", "return isinstance(Box, Box)"),
+    ("L15", "return TABLE"), ("L15", "rows = TABLE"), ("L15", "return asked(TABLE)"), ("L15", "return [TABLE]"), ("L15", "return TABLE or box"),
+    ("L19", "try:\n        return asked(box)\n    except Odd as why:\n        return 1\n    except KeyError as why:\n        return 2"),
+    ("L19", "try:\n        return asked(box)\n    except Odd as most:\n        return 1"), ("L22", "return Box()"), ("L22", "return Box(1, 2)"),
+    ("L22", "return Box(row=1)"), ("L22", "raise Odd()"), ("L22", "return box.told(5)"), ("L22", "return box.told(rows=5)"),
 )
 IN_A_FILE = (
     ("L3", "asked(1)"), ("L3", "A = B = 1"), ("L3", "A, B = 1, 2"), ("L3", "A = [[1]]"), ("L3", "A = len('a')"),

@@ -51,6 +51,26 @@ INTERFACE = {
         "standing": "(things, walker, name, day=9999)", "sums": "(things, walker, day=9999, since=0)",
     },
     "club": {"Club": "(things=None)", "merged": "(clubs)"},
+    "plans": {
+        "bits": "(book, pairs, clear=None)", "odd_marks": "(book, pairs)", "is_clear": "(book, bit)",
+        "wanted": "(book, bit)", "walks_needed": "(book, pairs)", "plan": "(book, pairs, short=True)",
+        "need_plan": "(book, pairs, thing)", "gentle": "(book, plan)",
+        "left_bits": "(club, walker, day, clear=None)", "plan_for": "(club, walker, day, short=True)",
+        "things_for": "(club, walker, day)", "rounds": "(club, walker, day)", "stuck": "(club, walker, day)",
+        "first_free": "(club, walker, day)",
+    },
+    "badges": {
+        "held": "(things, walker, name, day=9999)", "lacking": "(things, walker, day=9999)",
+        "gained": "(things, walker, last=9999)", "gained_on": "(things, walker, name, last=9999)",
+        "brought": "(things, walker, day, legs)",
+    },
+    "lists": {
+        "daytimes": "(book, legs, most)", "compared": "(club, first, other, day=9999)",
+        "pieces_together": "(club, walkers, day=9999)", "left_together": "(club, walkers, day=9999)",
+        "part_on": "(club, first, other, day=9999)", "meetings": "(club, first, other, day=9999)",
+        "ranked": "(club, by='pieces', day=9999)",
+    },
+    "desk": {"Desk": "(things='')", "all_said": "(lines, things='')"},
 }
 
 # Each stands in the body of its class.
@@ -66,6 +86,9 @@ METHODS = {
         "finished": "(self, walker, day=9999)", "excused": "(self, walker, day=9999)",
         "sums": "(self, walker, day=9999, since=0)", "news": "(self, walker, day=9999)", "twin": "(self)",
         "up_to": "(self, day)", "lean": "(self)", "__len__": "(self)", "__str__": "(self)", "__eq__": "(self, other)",
+    },
+    ("desk", "Desk"): {
+        "__init__": "(self, things='')", "said": "(self, line)", "__len__": "(self)", "club": "(self)",
     },
 }
 
